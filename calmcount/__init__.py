@@ -1,0 +1,1 @@
+"""Calmcount: a counter whose deeds change no more than three figures."""
