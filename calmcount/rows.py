@@ -46,6 +46,11 @@ def is_calm(row):
     return twos_are_apart(row) and twos_are_apart(mirrored(row))
 
 
+def refuse_if_not_calm(row):
+    if not is_calm(row):
+        raise NotCalm("this is no calm row")
+
+
 # Halving rounds down, so a number below 0 comes to -1 just at the least place whose power of two is large enough.
 def plain(number):
     row = []
@@ -59,8 +64,7 @@ def plain(number):
 
 
 def settled(row):
-    if not is_calm(row):
-        raise NotCalm("this is no calm row")
+    refuse_if_not_calm(row)
     total = 0
     unread = len(row)
     for figure in reversed(row):

@@ -21,6 +21,9 @@ WORDS = """type typing typing_extensions enum Enum IntEnum StrEnum Flag IntFlag 
 NamedTuple TypedDict TYPE_CHECKING abstractmethod""".split()
 PARTS = ("dataclass", "overload", "contextmanager")
 METHODS = ("__init__", "__eq__", "__repr__", "__str__", "__len__")
+VALUE_METHODS = """append clear copy count endswith extend find get index insert isalnum isalpha isdigit islower isspace
+isupper items join keys ljust lower lstrip partition pop remove replace reverse rfind rjust rpartition rsplit rstrip
+setdefault split splitlines startswith strip update upper values zfill bit_length""".split()
 
 
 def bound_names(tree):
@@ -37,6 +40,12 @@ def bound_names(tree):
         elif isinstance(node, ast.Name) and isinstance(node.ctx, ast.Store):
             names.add(node.id)
     return names
+
+
+def local_names(function):
+    names = [node.arg for node in ast.walk(function) if isinstance(node, ast.arg)]
+    stored = [node for node in ast.walk(function) if isinstance(node, ast.Name) and isinstance(node.ctx, ast.Store)]
+    return set(names + [node.id for node in stored])
 
 
 class FormTest(unittest.TestCase):
@@ -100,6 +109,63 @@ class FormTest(unittest.TestCase):
             for node in ast.walk(tree):
                 if isinstance(node, ast.Name) and node.id not in bound:
                     self.assertIn(node.id, OWN_NAMES, (name, node.lineno))
+
+    def test_the_top_of_a_file_binds_each_name_once(self):
+        for name, tree in self.trees:
+            top = []
+            for node in tree.body:
+                self.assertIsInstance(node, (ast.Expr, ast.ImportFrom, ast.Assign, ast.FunctionDef, ast.ClassDef), name)
+                if not isinstance(node, (ast.FunctionDef, ast.ClassDef)):
+                    top += sorted(bound_names(node))
+                else:
+                    top.append(node.name)
+                if isinstance(node, ast.Expr):
+                    self.assertIsInstance(node.value, ast.Constant, name)
+                if isinstance(node, ast.Assign):
+                    self.assertFalse(any(isinstance(part, ast.Call) for part in ast.walk(node)), name)
+            self.assertEqual(sorted(top), sorted(set(top)), name)
+
+    def test_no_local_is_called_like_a_class_or_an_import(self):
+        for name, tree in self.trees:
+            taken = [node.name for node in tree.body if isinstance(node, ast.ClassDef)]
+            for node in tree.body:
+                if isinstance(node, ast.ImportFrom):
+                    taken += [alias.name for alias in node.names]
+            for node in ast.walk(tree):
+                if isinstance(node, ast.FunctionDef):
+                    self.assertEqual(local_names(node) & set(taken), set(), (name, node.name))
+
+    def test_methods_and_values_of_objects(self):
+        own = set()
+        values = set()
+        for name, node in self.nodes:
+            if isinstance(node, ast.ClassDef):
+                own |= {part.name for part in node.body if isinstance(part, ast.FunctionDef)}
+            if isinstance(node, ast.Attribute) and isinstance(node.ctx, ast.Store):
+                values.add(node.attr)
+        self.assertEqual(own & values, set())
+        self.assertEqual(values & set(VALUE_METHODS), set())
+        for name, node in self.nodes:
+            if isinstance(node, ast.Attribute):
+                self.assertIn(node.attr, own | values | set(VALUE_METHODS), (name, node.lineno))
+
+    def test_is_stands_beside_none_and_the_truths_alone(self):
+        for name, node in self.nodes:
+            if isinstance(node, ast.Compare) and any(isinstance(op, (ast.Is, ast.IsNot)) for op in node.ops):
+                beside = [part for part in node.comparators if isinstance(part, ast.Constant)]
+                self.assertTrue(all(part.value in (None, True, False) for part in beside), (name, node.lineno))
+                self.assertEqual(len(beside), len(node.comparators), (name, node.lineno))
+
+    def test_no_two_files_draw_from_one_another(self):
+        draws = {}
+        for name, tree in self.trees:
+            modules = [node.module for node in tree.body if isinstance(node, ast.ImportFrom)]
+            draws[name] = {module.split(".")[1] + ".py" for module in modules}
+        while draws:
+            free = [name for name in draws if not draws[name] & set(draws)]
+            self.assertNotEqual(free, [], draws)
+            for name in free:
+                del draws[name]
 
 
 if __name__ == "__main__":
